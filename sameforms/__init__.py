@@ -1,0 +1,1 @@
+"""Sameforms: which forms of a table a book of endings can make alike."""

@@ -1,0 +1,45 @@
+"""The interface: names, arguments by position, and where each thing is defined."""
+
+import importlib
+import inspect
+import unittest
+
+FUNCTIONS = {
+    "families": {"whole": ["many"], "line": ["many"], "said": ["many", "sayings"], "without": ["family", "cell"],
+                 "crossed": ["one", "other"]},
+    "tables": {"spoken": ["table"], "cells_of": ["table", "form"], "common": ["table", "form"],
+               "filled": ["table", "cell", "form"], "opened": ["table", "cell"],
+               "joined": ["table", "one_form", "other_form"], "sames": ["table"]},
+    "parts": {"part": ["table", "cells"], "spread": ["table", "family"], "merged": ["one", "other"]},
+}
+CLASSES = {
+    "families": {"Family": (["many", "cells"], ["__eq__"])},
+    "tables": {"Table": (["family", "forms"], ["__eq__"])},
+}
+
+
+class Interface(unittest.TestCase):
+
+    def test_functions(self):
+        for file, functions in FUNCTIONS.items():
+            module = importlib.import_module("sameforms." + file)
+            for name, arguments in functions.items():
+                function = vars(module)[name]
+                self.assertTrue(inspect.isfunction(function), name)
+                self.assertEqual(function.__module__, module.__name__, name)
+                self.assertEqual(list(inspect.signature(function).parameters), arguments, name)
+
+    def test_classes(self):
+        for file, classes in CLASSES.items():
+            module = importlib.import_module("sameforms." + file)
+            for name, (arguments, methods) in classes.items():
+                thing = vars(module)[name]
+                self.assertTrue(inspect.isclass(thing), name)
+                self.assertEqual(thing.__module__, module.__name__, name)
+                self.assertEqual(list(inspect.signature(thing).parameters), arguments, name)
+                for method in methods:
+                    self.assertIn(method, vars(thing), name)
+
+
+if __name__ == "__main__":
+    unittest.main()
