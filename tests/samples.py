@@ -4,6 +4,7 @@ import unittest
 from itertools import combinations
 
 from sameforms import errors
+from sameforms.books import Book
 from sameforms.families import Family
 from sameforms.tables import Table
 
@@ -28,7 +29,7 @@ def strange_things():
         lambda: 0, [0] * 10000, (None,) * 9999, ("a",) * 9999, (0,) * 9999, ((0,),) * 9999,
         nested(40, list), nested(40, tuple), nested(40, dict), (nested(39, list),), (nested(39, dict), "a"),
         ("a", nested(39, list)), (("a", nested(38, list)), ("b", nested(38, tuple))),
-        family, (family,), ((family, "a"),), Table(family, ("a", None)), errors.NoCell(), errors.TooMany(4), errors.NoCell,
+        family, (family,), ((family, "a"),), Table(family, ("a", None)), Book("row", (((0,), "a"),), None), errors.NoCell(), errors.TooMany(4), errors.NoCell,
     ]
 
 
@@ -95,3 +96,57 @@ def small_tables(seed, many, names="abc", most_cells=5):
         cells = 1 + dice.below(min(2 ** marks, most_cells))
         tables.append(dice.table(marks, cells, names[:1 + dice.below(len(names))], 4 + dice.below(3)))
     return tables
+
+
+def fits(entry, cell):
+    return set(entry[0]) <= set(cell)
+
+
+def weight(book, number):
+    """What an entry is compared by in the manners "weights" and "most"."""
+    marks = book.entries[number][0]
+    return len(marks) if book.manner == "most" else sum(book.weights[mark] for mark in marks)
+
+
+def outdoes(book, one, other):
+    """Whether the one of two fitting entries speaks where just these fit."""
+    if book.manner == "row":
+        return one < other
+    if book.manner == "within":
+        return set(book.entries[one][0]) > set(book.entries[other][0])
+    return weight(book, one) > weight(book, other)
+
+
+def number_spoken(book, cell):
+    """The entry that speaks, word for word as the document has it, or None."""
+    numbers = [number for number, entry in enumerate(book.entries) if fits(entry, cell)]
+    for one in numbers:
+        if all(outdoes(book, one, other) for other in numbers if other != one):
+            return one
+    return None
+
+
+def form_spoken(book, cell):
+    number = number_spoken(book, cell)
+    return None if number is None else book.entries[number][1]
+
+
+def made_by(book, table):
+    """Whether the book makes the table."""
+    return all(form is None or form_spoken(book, cell) == form for cell, form in zip(table.family.cells, table.forms))
+
+
+def book_of(dice, manner, many, marks=4, names="abcdef"):
+    """A made-up book of so many entries."""
+    lots = subsets(tuple(range(marks)))
+    entries = tuple((dice.chosen(lots), dice.chosen(names)) for _ in range(many))
+    return Book(manner, entries, tuple(dice.below(4) for _ in range(6)) if manner == "weights" else None)
+
+
+MANNERS = ("row", "within", "weights", "most")
+
+
+def some_books(seed, many, most_entries=7, marks=4):
+    """Made-up books of all manners."""
+    dice = Dice(seed)
+    return [book_of(dice, manner, dice.below(most_entries + 1), marks) for _ in range(many) for manner in MANNERS]

@@ -11,10 +11,20 @@ FUNCTIONS = {
                "filled": ["table", "cell", "form"], "opened": ["table", "cell"],
                "joined": ["table", "one_form", "other_form"], "sames": ["table"]},
     "parts": {"part": ["table", "cells"], "spread": ["table", "family"], "merged": ["one", "other"]},
+    "books": {"speaker": ["book", "cell"], "fitting": ["book", "cell"], "idle": ["book", "family"],
+              "quarrels": ["book", "family"], "made": ["book", "family"], "makes": ["book", "table"],
+              "first_unlike": ["one", "other", "family"], "unlike_cell": ["one", "other"]},
+    "shapes": {"bare": ["book", "family"], "in_a_row": ["book"], "is_in_a_row": ["book", "thing"]},
+    "rows": {"reaches": ["table"], "ring": ["table"], "is_ring": ["table", "thing"], "row_book": ["table"],
+             "ring_by": ["table", "form"], "loose": ["table"], "levels": ["table"]},
+    "orders": {"count_orders": ["table"], "order_number": ["table", "order"], "count_rows": ["table"],
+               "order_at": ["table", "number"], "lightest": ["table"], "row_at": ["table", "number"],
+               "row_number": ["table", "book"], "must_have": ["table"]},
 }
 CLASSES = {
     "families": {"Family": (["many", "cells"], ["__eq__"])},
     "tables": {"Table": (["family", "forms"], ["__eq__"])},
+    "books": {"Book": (["manner", "entries", "weights"], ["__eq__"])},
 }
 
 
