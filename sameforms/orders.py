@@ -3,7 +3,7 @@
 from sameforms.books import Book
 from sameforms.errors import NoNumber, NoOrder, NotMade
 from sameforms.kinds import all_within, is_between, lies_within
-from sameforms.tables import common, spoken
+from sameforms.tables import common, is_spoken, spoken
 
 # Going through all orders would take too long for twelve forms, so what can
 # stand behind others is counted once for each lot of forms. A lot is an integer
@@ -108,7 +108,7 @@ def order_at(table, number):
 
 def order_number(table, order):
     """The number of this order."""
-    if not isinstance(order, tuple):
+    if not isinstance(order, tuple) or not all([is_spoken(table, form) for form in order]):
         raise NoOrder()
     number = _number_of(table, _orders(table), [((), form) for form in order])
     if number is None:
