@@ -59,3 +59,13 @@ def all_within(marks):
 def all_cells(many):
     """The ascending list of all cells of marks below many."""
     return all_within(tuple(range(many)))
+
+
+def bits(marks):
+    """The marks as the bits of an integer."""
+    return sum([1 << mark for mark in marks])
+
+
+def marks_of(lot):
+    """The ascending tuple of the marks whose bits these are."""
+    return tuple([mark for mark in range(lot.bit_length()) if lot >> mark & 1])

@@ -1,7 +1,7 @@
 """Tables: a form, or none, for each cell of a family."""
 
 from sameforms.errors import BadTable, NoCell, NoForm, TooMany
-from sameforms.kinds import is_form, is_place, lies_within
+from sameforms.kinds import is_form, is_place
 
 MOST_FORMS = 12
 
@@ -48,6 +48,16 @@ def spoken(table):
 def is_spoken(table, thing):
     """Whether the thing is one of the table's forms."""
     return isinstance(thing, str) and thing in table.forms
+
+
+def told_cells(table):
+    """The list of the numbers of the cells that are told."""
+    return [number for number, form in enumerate(table.forms) if form is not None]
+
+
+def open_cells(table):
+    """The list of the numbers of the cells that are open."""
+    return [number for number, form in enumerate(table.forms) if form is None]
 
 
 def cells_of(table, form):

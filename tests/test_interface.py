@@ -20,6 +20,16 @@ FUNCTIONS = {
     "orders": {"count_orders": ["table"], "order_number": ["table", "order"], "count_rows": ["table"],
                "order_at": ["table", "number"], "lightest": ["table"], "row_at": ["table", "number"],
                "row_number": ["table", "book"], "must_have": ["table"]},
+    "holding": {"shrunk": ["table"], "strikes": ["table"], "all_withins": ["table"], "within_book": ["table"],
+                "shrunk_bar": ["table"], "is_shrunk_bar": ["table", "thing"], "count_withins": ["table"],
+                "by_sets": ["family", "sets"]},
+    "weights": {"weights_for": ["table", "sets"], "mixture": ["table", "sets"], "is_mixture": ["table", "sets", "thing"],
+                "least_weights": ["table", "sets"]},
+    "ladders": {"weights_book": ["table"], "most_book": ["table"], "ladder": ["table"]},
+    "opens": {"is_made": ["table", "manner"], "may_speak": ["table", "cell", "manner"], "settling": ["table", "manner"],
+              "count_filled": ["table", "manner"], "all_filled": ["table", "manner"],
+              "alike_ever": ["table", "manner", "first", "second"], "asked_next": ["table", "manner"]},
+    "cores": {"core": ["table", "manner"], "opened_least": ["table", "manner"]},
 }
 CLASSES = {
     "families": {"Family": (["many", "cells"], ["__eq__"])},

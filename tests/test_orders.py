@@ -8,7 +8,7 @@ from sameforms.books import Book, makes
 from sameforms.families import Family, line, whole
 from sameforms.orders import count_orders, count_rows, lightest, must_have, order_at, order_number, row_at, row_number
 from sameforms.tables import Table
-from samples import Checked, made_by, nested, small_tables, strange_things, subsets
+from samples import Checked, forms_of, made_by, nested, shared, small_tables, strange_things, subsets
 
 SQUARE = whole(2)
 RPPQ = Table(SQUARE, ("r", "p", "p", "q"))
@@ -16,15 +16,6 @@ ABA = Table(line(2), ("a", "b", "a"))
 EMPTY = Table(SQUARE, (None,) * 4)
 PAIRS = tuple(cell for cell in subsets((0, 1, 2, 3, 4, 5)) if len(cell) == 2)
 TWELVE = Table(Family(6, PAIRS[:12]), tuple("lkjihgfedcba"))
-
-
-def forms_of(table):
-    return sorted(set(table.forms) - {None})
-
-
-def shared(table, form):
-    cells = [set(cell) for cell, told in zip(table.family.cells, table.forms) if told == form]
-    return tuple(sorted(set.intersection(*cells)))
 
 
 def all_orders(table):

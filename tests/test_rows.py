@@ -7,7 +7,7 @@ from sameforms.books import Book
 from sameforms.families import Family, line, whole
 from sameforms.rows import is_ring, levels, loose, reaches, ring, ring_by, row_book
 from sameforms.tables import Table
-from samples import Checked, made_by, nested, small_tables, strange_things
+from samples import Checked, forms_of, made_by, nested, shared, small_tables, strange_things
 
 SQUARE = whole(2)
 RPPQ = Table(SQUARE, ("r", "p", "p", "q"))
@@ -17,18 +17,10 @@ CIRCLE = Table(Family(3, ((0,), (0, 2), (1,), (0, 1), (2,), (1, 2))), ("a", "a",
 EMPTY = Table(SQUARE, (None,) * 4)
 
 
-def shared(table, form):
-    return set.intersection(*[set(cell) for cell, told in zip(table.family.cells, table.forms) if told == form])
-
-
-def forms_of(table):
-    return sorted(set(table.forms) - {None})
-
-
 def all_reaches(table):
     """All triples of two unlike forms and a cell by which the one reaches the other."""
     return [(one, other, number) for one in forms_of(table) for number, other in enumerate(table.forms)
-            if other not in (None, one) and shared(table, one) <= set(table.family.cells[number])]
+            if other not in (None, one) and set(shared(table, one)) <= set(table.family.cells[number])]
 
 
 def all_rounds(table):
@@ -41,7 +33,7 @@ def all_rounds(table):
 def orders_of(table):
     """All orders of the forms in which their common marks make the table."""
     return [order for order in permutations(forms_of(table))
-            if made_by(Book("row", tuple((tuple(sorted(shared(table, form))), form) for form in order), None), table)]
+            if made_by(Book("row", tuple((shared(table, form), form) for form in order), None), table)]
 
 
 class Reaches(Checked):
