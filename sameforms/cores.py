@@ -2,21 +2,10 @@
 
 from itertools import combinations
 
-from sameforms.errors import TooMany
 from sameforms.holding import cell_bits
-from sameforms.opens import is_made, made_so, need_manner
-from sameforms.tables import told_cells
+from sameforms.opens import few_told, is_made, made_so
 
 MOST_TOLD = 10
-
-
-def _few_told(table, manner):
-    """The numbers of the told cells, which must not be too many."""
-    need_manner(manner)
-    cells = told_cells(table)
-    if len(cells) > MOST_TOLD:
-        raise TooMany(MOST_TOLD)
-    return cells
 
 
 def _made_with(table, manner, cells):
@@ -27,7 +16,7 @@ def _made_with(table, manner, cells):
 
 def core(table, manner):
     """The least of the smallest tuples of told cells that alone bar the table, None if it is made."""
-    cells = _few_told(table, manner)
+    cells = few_told(table, manner, MOST_TOLD)
     if is_made(table, manner):
         return None
     for many in range(len(cells)):
@@ -39,7 +28,7 @@ def core(table, manner):
 
 def opened_least(table, manner):
     """The least of the smallest tuples of told cells such that the table is made with these open."""
-    cells = _few_told(table, manner)
+    cells = few_told(table, manner, MOST_TOLD)
     for many in range(len(cells)):
         for chosen in combinations(cells, many):
             if _made_with(table, manner, [cell for cell in cells if cell not in chosen]):

@@ -5,7 +5,7 @@ from itertools import combinations
 from sameforms.errors import NoCell, NoManner, NotMade, TooMany
 from sameforms.holding import cell_bits, common_bits, shrink
 from sameforms.kinds import bits, is_place, marks_of
-from sameforms.tables import filled, open_cells, spoken
+from sameforms.tables import filled, open_cells, spoken, told_cells
 
 MANNERS_OF_MAKING = ("row", "within")
 MOST_WAYS = 20000
@@ -16,6 +16,15 @@ def need_manner(thing):
     """Refuses what is no manner by which tables are made."""
     if not isinstance(thing, str) or thing not in MANNERS_OF_MAKING:
         raise NoManner()
+
+
+def few_told(table, manner, most):
+    """The list of the numbers of the told cells, of which there must not be more than so many."""
+    need_manner(manner)
+    cells = told_cells(table)
+    if len(cells) > most:
+        raise TooMany(most)
+    return cells
 
 
 def made_so(lots, forms, manner):

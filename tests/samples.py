@@ -7,6 +7,8 @@ from itertools import combinations, permutations, product
 from sameforms import errors
 from sameforms.books import Book
 from sameforms.families import Family, line
+from sameforms.holding import within_book
+from sameforms.rows import row_book
 from sameforms.tables import Table
 
 
@@ -170,6 +172,11 @@ def told_places(table):
 
 def open_places(table):
     return [number for number, form in enumerate(table.forms) if form is None]
+
+
+def has_book(table, manner):
+    """Whether the program finds a book of this manner that makes the table."""
+    return (row_book(table) if manner == "row" else within_book(table)) is not None
 
 
 def with_forms(table, forms):

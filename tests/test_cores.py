@@ -5,21 +5,15 @@ from itertools import combinations
 
 from sameforms.cores import core, opened_least
 from sameforms.families import Family, line, whole
-from sameforms.holding import within_book
-from sameforms.rows import row_book
 from sameforms.tables import Table
-from samples import (Checked, Dice, lines_by_turns, manners_that_are_none, plainly_made, small_tables, tables_of_books,
-                     tiny_tables, told_places, with_forms)
+from samples import (Checked, Dice, has_book, lines_by_turns, manners_that_are_none, plainly_made, small_tables,
+                     tables_of_books, tiny_tables, told_places, with_forms)
 
 SQUARE = whole(2)
 RPPQ = Table(SQUARE, ("r", "p", "p", "q"))
 ABA = Table(line(2), ("a", "b", "a"))
 EMPTY = Table(SQUARE, (None,) * 4)
 MAKING = ("row", "within")
-
-
-def has_book(table, manner):
-    return (row_book(table) if manner == "row" else within_book(table)) is not None
 
 
 def all_choices(cells):

@@ -30,6 +30,12 @@ FUNCTIONS = {
               "count_filled": ["table", "manner"], "all_filled": ["table", "manner"],
               "alike_ever": ["table", "manner", "first", "second"], "asked_next": ["table", "manner"]},
     "cores": {"core": ["table", "manner"], "opened_least": ["table", "manner"]},
+    "sentences": {"ever": ["table", "manner", "sentence"], "way_with": ["table", "manner", "sentence", "flag"]},
+    "questions": {"questions": ["table", "manner"], "question_tree": ["table", "manner"],
+                  "is_question_tree": ["table", "manner", "thing"]},
+    "chance": {"fewest_entries": ["table", "manner"], "parted": ["table", "manner"], "surely_apart": ["table", "manner"]},
+    "rules": {"changed": ["rules", "cell"], "alike_behind": ["family", "rules"], "moved": ["table", "rules"],
+              "one_strike": ["table", "manner"], "few_leads": ["table", "manner"]},
 }
 CLASSES = {
     "families": {"Family": (["many", "cells"], ["__eq__"])},

@@ -4,12 +4,11 @@ import unittest
 from itertools import combinations, product
 
 from sameforms.families import Family, line, whole
-from sameforms.holding import within_book
 from sameforms.opens import all_filled, alike_ever, asked_next, count_filled, is_made, may_speak, settling
-from sameforms.rows import row_book
 from sameforms.tables import Table
-from samples import (Checked, all_ways, forms_of, large_tables, lines_by_turns, manners_that_are_none, no_places, open_places,
-                     plainly_made, small_tables, subsets, tables_of_books, tables_with_open_cells, tiny_tables, with_forms)
+from samples import (Checked, all_ways, forms_of, has_book, large_tables, lines_by_turns, manners_that_are_none, no_places,
+                     open_places, plainly_made, small_tables, subsets, tables_of_books, tables_with_open_cells, tiny_tables,
+                     with_forms)
 
 SQUARE = whole(2)
 RPPQ = Table(SQUARE, ("r", "p", "p", "q"))
@@ -22,10 +21,6 @@ THOUSAND = Table(Family(6, ((0, 1, 3, 5), (0, 2, 3, 5), (0, 1, 2, 3), (0, 4), (0
                             (0, 1, 4, 5), (3,), (1, 2, 3, 5), (0, 1, 2, 3, 5))), (None,) * 6 + ("a", "e", "c", "b", "e", "d", "a"))
 ONE_MORE = Table(Family(6, ((3, 4), (2, 3, 5), (0, 1, 2, 4), (0, 1), (0, 2, 4, 5), (1, 2, 3), (0, 3, 4), (2, 3, 4), (0, 1, 2, 4, 5),
                             (0, 1, 2, 3, 5), (1, 2, 4, 5))), (None,) * 6 + ("a", "b", "c", "d", "e"))
-
-
-def has_book(table, manner):
-    return (row_book(table) if manner == "row" else within_book(table)) is not None
 
 
 def with_open(names, many):
