@@ -1,6 +1,6 @@
 """Tables: a form, or none, for each cell of a family."""
 
-from sameforms.errors import BadTable, NoCell, NoForm, TooMany
+from sameforms.errors import BadTable, NoCell, NoForm, OpenCell, TooMany
 from sameforms.kinds import is_form, is_place
 
 MOST_FORMS = 12
@@ -58,6 +58,13 @@ def told_cells(table):
 def open_cells(table):
     """The list of the numbers of the cells that are open."""
     return [number for number, form in enumerate(table.forms) if form is None]
+
+
+def need_closed(table):
+    """Refuses a table with an open cell."""
+    cells = open_cells(table)
+    if cells:
+        raise OpenCell(cells[0])
 
 
 def cells_of(table, form):

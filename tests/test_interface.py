@@ -36,6 +36,12 @@ FUNCTIONS = {
     "chance": {"fewest_entries": ["table", "manner"], "parted": ["table", "manner"], "surely_apart": ["table", "manner"]},
     "rules": {"changed": ["rules", "cell"], "alike_behind": ["family", "rules"], "moved": ["table", "rules"],
               "one_strike": ["table", "manner"], "few_leads": ["table", "manner"]},
+    "slotted": {"slots": ["table", "manner"], "never_parted": ["table", "manner"], "is_slots": ["table", "manner", "thing"]},
+    "counting": {"pattern": ["table"], "pattern_at": ["family", "manner", "number"], "shut": ["family"], "all_made": ["family"],
+                 "is_shut": ["family"], "table_of": ["family", "names"], "count_patterns": ["family", "manner"],
+                 "pattern_number": ["family", "manner", "names"], "barring_lots": ["family"]},
+    "patterns": {"meet": ["first", "second"], "join": ["first", "second"], "barred_least": ["family", "manner"]},
+    "chains": {"one_chain": ["rows"]},
 }
 CLASSES = {
     "families": {"Family": (["many", "cells"], ["__eq__"])},
