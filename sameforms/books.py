@@ -131,9 +131,14 @@ def _form_at(book, cell):
     return form_among(book, fitting(book, cell))
 
 
+def forms_made(book, family):
+    """The tuple of the forms, however many, that speak at the family's cells."""
+    return tuple([_form_at(book, cell) for cell in family.cells])
+
+
 def made(book, family):
     """The table of the forms that speak at the family's cells."""
-    return limited(family, tuple([_form_at(book, cell) for cell in family.cells]))
+    return limited(family, forms_made(book, family))
 
 
 def idle(book, family):

@@ -42,11 +42,21 @@ FUNCTIONS = {
                  "pattern_number": ["family", "manner", "names"], "barring_lots": ["family"]},
     "patterns": {"meet": ["first", "second"], "join": ["first", "second"], "barred_least": ["family", "manner"]},
     "chains": {"one_chain": ["rows"]},
+    "tongues": {"one_change": ["family", "book", "table"]},
+    "strangers": {"asked": ["family", "stranger"], "refuted": ["family", "manner", "stranger"]},
+    "texts": {"family_text": ["family"], "table_text": ["table"], "book_text": ["book"], "rules_text": ["rules"]},
+    "reading": {"read_family": ["text"], "read_table": ["text"], "read_book": ["text"], "read_rules": ["text"]},
+}
+METHODS_OF_TONGUES = {
+    "lose": ["number"], "win": ["number", "entry"], "drop": ["mark"], "standing": [], "table": [], "sames": [], "quarrels": [], "idle": [],
+    "if_lost": ["number"], "if_won": ["number", "entry"], "back": [], "changes": [], "copy": [], "trying": ["action"],
 }
 CLASSES = {
-    "families": {"Family": (["many", "cells"], ["__eq__"])},
-    "tables": {"Table": (["family", "forms"], ["__eq__"])},
-    "books": {"Book": (["manner", "entries", "weights"], ["__eq__"])},
+    "families": {"Family": (["many", "cells"], {"__eq__": ["other"]})},
+    "tables": {"Table": (["family", "forms"], {"__eq__": ["other"]})},
+    "books": {"Book": (["manner", "entries", "weights"], {"__eq__": ["other"]})},
+    "tongues": {"Tongue": (["family", "book"], METHODS_OF_TONGUES)},
+    "desks": {"Desk": ([], {"tell": ["line"], "undoable": []})},
 }
 
 
@@ -69,8 +79,8 @@ class Interface(unittest.TestCase):
                 self.assertTrue(inspect.isclass(thing), name)
                 self.assertEqual(thing.__module__, module.__name__, name)
                 self.assertEqual(list(inspect.signature(thing).parameters), arguments, name)
-                for method in methods:
-                    self.assertIn(method, vars(thing), name)
+                for method, given in methods.items():
+                    self.assertEqual(list(inspect.signature(vars(thing)[method]).parameters), ["self", *given], method)
 
 
 if __name__ == "__main__":

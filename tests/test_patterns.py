@@ -6,7 +6,6 @@ from itertools import combinations
 from sameforms.counting import count_patterns
 from sameforms.families import Family, line, whole
 from sameforms.patterns import barred_least, join, meet
-from sameforms.tables import Table
 from samples import Checked, Dice, has_book, manners_that_are_none, nested, plainly_made, strange_things
 from test_counting import BELL, WRONG_NAMES, all_names, all_restricted, called, cells_of_six, families, is_names
 
